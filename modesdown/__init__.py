@@ -1,0 +1,1 @@
+"""Modesdown: commands that change modes down a tree and may bar themselves."""
