@@ -1,5 +1,7 @@
 """Checks of values of any kind."""
 
+LETTERS = "abcdefghijklmnopqrstuvwxyz"
+
 
 def is_whole(value):
     """Whether a value is an integer; a bool is none."""
@@ -16,3 +18,17 @@ def is_choice(value, letters):
     if not isinstance(value, str):
         return False
     return value == "".join([letter for letter in letters if letter in value])
+
+
+def is_name(value):
+    """Whether a value is a name: a string of 1 to 8 letters a to z."""
+    if not isinstance(value, str) or not 1 <= len(value) <= 8:
+        return False
+    return all([letter in LETTERS for letter in value])
+
+
+def are_unlike_names(values):
+    """Whether all values of a list or tuple are names, and none stands twice."""
+    if not all([is_name(value) for value in values]):
+        return False
+    return len(set(values)) == len(values)

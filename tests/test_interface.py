@@ -1,62 +1,133 @@
 """What the head of the interface says of the modules that have landed."""
 
+import importlib
 import inspect
 import unittest
 
-from modesdown import changes, errors, modes
-from modesdown.changes import Change, Clause, parting
-from modesdown.modes import Mode
+from modesdown import errors
 
-# By class: the names that stand in its own body, by how they are read.
-PROPERTIES = {"Mode": ("number", "digits"), "Clause": ("who", "sign", "what"), "Change": ("clauses", "tables")}
-STATIC = {"Mode": ("of", "uniform"), "Clause": (), "Change": ("setting",)}
-OF_CLASS = {"Mode": ("read",), "Clause": ("read",), "Change": ("read",)}
-METHODS = {
-    "Mode": (
-        "pattern", "with_pattern", "__or__", "__ror__", "__and__", "__rand__", "__xor__", "__rxor__", "__invert__",
-        "__contains__", "__len__", "__bool__", "__eq__", "__str__", "__repr__",
-    ),
-    "Clause": ("__call__", "__str__", "__eq__"),
-    "Change": ("__call__", "__mul__", "like", "cycle", "__str__", "__eq__"),
+# By module: the functions that it defines, and by class how each of its names is read.
+FUNCTIONS = {
+    "changes": {"parting": ["one", "other"]},
+    "words": {
+        "stand_of": ["row", "tree", "path"], "word_of": ["row", "tree", "path"], "words": ["row", "tree"],
+        "reckoned": ["row", "tree"], "behind": ["row", "stand", "entry"],
+    },
 }
-PARAMETERS = (
-    (Mode, ["number"]), (Mode.read, ["text"]), (Mode.of, ["owner", "group", "others"]), (Mode.uniform, ["pattern"]),
-    (Mode(0).pattern, ["letter"]), (Mode(0).with_pattern, ["letter", "pattern"]),
-    (Clause, ["who", "sign", "what"]), (Clause.read, ["text"]), (Clause("u", "+", "r"), ["mode", "form"]),
-    (Change, ["clauses"]), (Change.read, ["text"]), (Change.setting, ["mode"]),
-    (Change.read("u+r"), ["mode", "form"]), (Change.read("u+r").like, ["other"]), (Change.read("u+r").cycle, ["form"]),
-    (parting, ["one", "other"]),
-)
+MADE = {
+    "modes": {"Mode": ["number"]},
+    "changes": {"Clause": ["who", "sign", "what"], "Change": ["clauses"]},
+    "users": {"User": ["name", "groups"], "Chief": ["name", "groups"]},
+    "trees": {
+        "Entry": None, "Holder": None, "File": ["mode", "owner", "group"], "Folder": ["mode", "owner", "group", "children"],
+        "Tree": ["top"],
+    },
+    "commands": {"Command": ["user", "change", "order", "kinds", "start"], "Row": ["commands"]},
+    "words": {"Passage": ["row", "stand", "mode", "owner", "group"]},
+}
+PROPERTIES = {
+    "Mode": ("number", "digits"), "Clause": ("who", "sign", "what"), "Change": ("clauses", "tables"), "User": ("name", "groups"),
+    "Entry": ("mode", "owner", "group", "form"), "Command": ("user", "change", "order", "kinds", "start"),
+    "Passage": ("after", "word", "ahead", "other"),
+}
+STATIC = {"Mode": {"of": ["owner", "group", "others"], "uniform": ["pattern"]}, "Change": {"setting": ["mode"]}}
+OF_CLASS = {"Mode": {"read": ["text"]}, "Clause": {"read": ["text"]}, "Change": {"read": ["text"]}, "Tree": {"of": ["rows"]}}
+VALUES = {"Mode": ("MOST",), "Change": ("MOST",), "User": ("GROUPS",), "Tree": ("ENTRIES",), "Command": ("ORDERS", "KINDS"),
+          "Row": ("MOST",)}
+AT = ["mode", "owner", "group"]
+# Operators have no parameters that are passed by name.
+METHODS = {
+    "Mode": {
+        "pattern": ["letter"], "with_pattern": ["letter", "pattern"], "__or__": None, "__ror__": None, "__and__": None,
+        "__rand__": None, "__xor__": None, "__rxor__": None, "__invert__": None, "__contains__": None, "__len__": None,
+        "__bool__": None, "__eq__": None, "__str__": None, "__repr__": None,
+    },
+    "Clause": {"__call__": ["mode", "form"], "__str__": None, "__eq__": None},
+    "Change": {
+        "__call__": ["mode", "form"], "__mul__": None, "like": ["other"], "cycle": ["form"], "__str__": None, "__eq__": None,
+    },
+    "User": {"class_at": ["owner", "group"], "bits_at": AT, "passes": AT, "lists": AT, "may_change": ["owner"], "__eq__": None},
+    "Chief": {"class_at": ["owner", "group"], "bits_at": AT, "passes": AT, "lists": AT, "may_change": ["owner"]},
+    "Entry": {"set_mode": ["mode"], "copy": [], "__eq__": None},
+    "Holder": {"names": [], "put": ["name", "entry"], "__contains__": None, "__getitem__": None, "__len__": None},
+    "File": {"__init__": None}, "Folder": {"__init__": None},
+    "Tree": {
+        "__getitem__": None, "__setitem__": None, "__contains__": None, "entry": ["path"], "size": [], "__eq__": None,
+        "copy": [], "entries": [], "rows": [], "put": ["path", "entry"], "__iadd__": None, "take_out": ["path"],
+        "bar": ["user", "path"], "trial": [], "attempt": ["deed"],
+    },
+    "Command": {
+        "means": ["form"], "may": ["entry"], "__call__": ["tree"], "__add__": None, "__mul__": None, "__rmul__": None,
+        "__eq__": None,
+    },
+    "Row": {
+        "__len__": None, "__getitem__": None, "__eq__": None, "__add__": None, "__mul__": None, "__rmul__": None,
+        "without": ["k"], "__call__": ["tree"], "play": ["tree"],
+    },
+    "Passage": {"__call__": ["name"], "steps": []},
+}
+GENERATORS = {("Tree", "entries"), ("Row", "play"), ("Passage", "steps"), (None, "words")}
+
+
+def module(name):
+    return importlib.import_module("modesdown." + name)
+
+
+def listed():
+    """All classes of the interface that have landed, with their modules."""
+    return [(told, getattr(module(told), name)) for told, classes in MADE.items() for name in classes]
+
+
+def parameters(call):
+    return [name for name in inspect.signature(call).parameters if name != "self"]
 
 
 class Interface(unittest.TestCase):
     def test_defined_where_they_are_listed(self):
-        self.assertEqual(Mode.__module__, "modesdown.modes")
-        for listed in (Clause, Change, parting):
-            self.assertEqual(listed.__module__, "modesdown.changes")
-        for module in (errors, modes, changes):
-            for name, value in vars(module).items():
-                if inspect.isclass(value) and value.__module__ == module.__name__:
-                    self.assertEqual(value.__qualname__, name)
+        for told, one in listed():
+            self.assertTrue(inspect.isclass(one))
+            self.assertEqual(one.__module__, "modesdown." + told)
+        for told, functions in FUNCTIONS.items():
+            for name in functions:
+                one = getattr(module(told), name)
+                self.assertTrue(inspect.isfunction(one))
+                self.assertEqual((one.__module__, one.__name__), ("modesdown." + told, name))
 
     def test_names_stand_in_the_class_itself(self):
-        for one in (Mode, Clause, Change):
-            own = vars(one)
-            name = one.__name__
-            for told in PROPERTIES[name]:
-                self.assertIsInstance(own[told], property, (name, told))
-            for told in STATIC[name]:
-                self.assertIsInstance(own[told], staticmethod, (name, told))
-            for told in OF_CLASS[name]:
-                self.assertIsInstance(own[told], classmethod, (name, told))
-            for told in METHODS[name]:
-                self.assertTrue(inspect.isfunction(own[told]), (name, told))
-        self.assertIn("MOST", vars(Mode))
-        self.assertIn("MOST", vars(Change))
+        for told, one in listed():
+            own, name = vars(one), one.__name__
+            for word in PROPERTIES.get(name, ()):
+                self.assertIsInstance(own[word], property, (name, word))
+            for word in STATIC.get(name, ()):
+                self.assertIsInstance(own[word], staticmethod, (name, word))
+            for word in OF_CLASS.get(name, ()):
+                self.assertIsInstance(own[word], classmethod, (name, word))
+            for word in METHODS.get(name, ()):
+                self.assertTrue(inspect.isfunction(own[word]), (name, word))
+            for word in VALUES.get(name, ()):
+                self.assertIn(word, own, name)
 
     def test_parameters(self):
-        for call, names in PARAMETERS:
-            self.assertEqual(list(inspect.signature(call).parameters), names, call)
+        for told, functions in FUNCTIONS.items():
+            for name, names in functions.items():
+                self.assertEqual(parameters(getattr(module(told), name)), names, name)
+        for told, one in listed():
+            name = one.__name__
+            if MADE[told][name] is not None:
+                self.assertEqual(parameters(one), MADE[told][name], name)
+            for table in (STATIC, OF_CLASS, METHODS):
+                for word, names in table.get(name, {}).items():
+                    if names is not None:
+                        self.assertEqual(parameters(getattr(one, word)), names, (name, word))
+
+    def test_generators(self):
+        for told, one in listed():
+            for word in METHODS.get(one.__name__, ()):
+                wanted = (one.__name__, word) in GENERATORS
+                self.assertEqual(inspect.isgeneratorfunction(vars(one)[word]), wanted, word)
+        for told, functions in FUNCTIONS.items():
+            for name in functions:
+                self.assertEqual(inspect.isgeneratorfunction(getattr(module(told), name)), (None, name) in GENERATORS)
 
     def test_errors_set_their_fields_in_their_own_body(self):
         for name, value in vars(errors).items():
