@@ -2,6 +2,7 @@
 
 from modesdown.changes import Change
 from modesdown.commands import Command, Row
+from modesdown.kinds import Kind, Line
 from modesdown.trees import File, Folder, Tree
 from modesdown.users import Chief, User
 from tests import walker
@@ -43,3 +44,16 @@ def plain(tree):
 
 def copied(tree):
     return {path: list(entry) for path, entry in tree.items()}
+
+
+def kind_of(lines):
+    return Kind(*[Line(*line) for line in lines])
+
+
+def plain_chain(chain):
+    """A chain in the form of point 18 as a dict of lists."""
+    tree, path = {}, ""
+    for name, form, mode, owner, group in chain:
+        path = path + "/" + name if path else name
+        tree[path] = [form, mode, owner, group]
+    return tree

@@ -13,6 +13,14 @@ FUNCTIONS = {
         "stand_of": ["row", "tree", "path"], "word_of": ["row", "tree", "path"], "words": ["row", "tree"],
         "reckoned": ["row", "tree"], "behind": ["row", "stand", "entry"],
     },
+    "foldertypes": {"spare": ["names"], "folder_types": ["kind", "rows"]},
+    "stands": {
+        "agree": ["kind", "one", "other", "joint", "form", "mask"], "is_below": ["kind", "one", "other", "joint", "form", "mask"],
+    },
+    "alike": {
+        "alike": ["one", "other", "kind", "mask", "most"], "at_most": ["one", "other", "kind", "mask", "most"],
+        "needless": ["row", "index", "kind", "mask", "most"], "exchanged": ["row", "index", "kind", "mask", "most"],
+    },
 }
 MADE = {
     "modes": {"Mode": ["number"]},
@@ -24,16 +32,23 @@ MADE = {
     },
     "commands": {"Command": ["user", "change", "order", "kinds", "start"], "Row": ["commands"]},
     "words": {"Passage": ["row", "stand", "mode", "owner", "group"]},
+    "kinds": {"Line": ["form", "owners", "groups", "must", "never"], "Kind": ["lines"]},
+    "foldertypes": {"FolderType": ["owner", "group", "mode"]},
+    "stands": {"Stands": ["kind", "rows", "most"]},
+    "alike": {"Verdict": None, "Held": ["listed"], "Parted": ["chain"]},
 }
 PROPERTIES = {
     "Mode": ("number", "digits"), "Clause": ("who", "sign", "what"), "Change": ("clauses", "tables"), "User": ("name", "groups"),
     "Entry": ("mode", "owner", "group", "form"), "Command": ("user", "change", "order", "kinds", "start"),
-    "Passage": ("after", "word", "ahead", "other"),
+    "Passage": ("after", "word", "ahead", "other"), "Line": ("form", "owners", "groups", "must", "never"), "Kind": ("lines",),
+    "FolderType": ("owner", "group", "mode"), "Stands": ("listed", "told"), "Verdict": ("paper", "answer"), "Held": ("listed",),
+    "Parted": ("chain",),
 }
 STATIC = {"Mode": {"of": ["owner", "group", "others"], "uniform": ["pattern"]}, "Change": {"setting": ["mode"]}}
-OF_CLASS = {"Mode": {"read": ["text"]}, "Clause": {"read": ["text"]}, "Change": {"read": ["text"]}, "Tree": {"of": ["rows"]}}
+OF_CLASS = {"Mode": {"read": ["text"]}, "Clause": {"read": ["text"]}, "Change": {"read": ["text"]}, "Tree": {"of": ["rows"]},
+            "Kind": {"every": []}}
 VALUES = {"Mode": ("MOST",), "Change": ("MOST",), "User": ("GROUPS",), "Tree": ("ENTRIES",), "Command": ("ORDERS", "KINDS"),
-          "Row": ("MOST",)}
+          "Row": ("MOST",), "Kind": ("MOST",), "Stands": ("MOST",)}
 AT = ["mode", "owner", "group"]
 # Operators have no parameters that are passed by name.
 METHODS = {
@@ -65,8 +80,27 @@ METHODS = {
         "without": ["k"], "__call__": ["tree"], "play": ["tree"],
     },
     "Passage": {"__call__": ["name"], "steps": []},
+    "Line": {"lets": ["form", "mode", "owner", "group"], "patterns": ["letter"], "__eq__": None},
+    "Kind": {
+        "lets": ["form", "mode", "owner", "group"], "__contains__": None, "holds": ["tree"], "__or__": None, "__and__": None,
+        "folder_modes": ["owner", "group"], "__eq__": None,
+    },
+    "FolderType": {"passes": ["user"], "lists": ["user"], "changed": ["change"], "__eq__": None, "__str__": None},
+    "Stands": {
+        "__contains__": None, "__len__": None, "__eq__": None, "nexts": ["joint"], "way": ["joint"], "each": [],
+    },
+    "Verdict": {"__bool__": None, "__eq__": None}, "Held": {"__init__": None}, "Parted": {"__init__": None, "as_tree": []},
 }
-GENERATORS = {("Tree", "entries"), ("Row", "play"), ("Passage", "steps"), (None, "words")}
+GENERATORS = {("Tree", "entries"), ("Row", "play"), ("Passage", "steps"), (None, "words"),
+              ("Stands", "each"), (None, "folder_types")}
+DEFAULTS = {
+    ("commands", "Command"): {"order": "first", "kinds": "all", "start": ""},
+    ("kinds", "Line"): {"owners": None, "groups": None, "must": 0, "never": 0}, ("stands", "Stands"): {"most": 400},
+    ("stands", "agree"): {"mask": 0o777}, ("stands", "is_below"): {"mask": 0o777},
+    ("alike", "alike"): {"kind": None, "mask": 0o777, "most": 400}, ("alike", "at_most"): {"kind": None, "mask": 0o777, "most": 400},
+    ("alike", "needless"): {"kind": None, "mask": 0o777, "most": 400},
+    ("alike", "exchanged"): {"kind": None, "mask": 0o777, "most": 400},
+}
 
 
 def module(name):
@@ -119,6 +153,13 @@ class Interface(unittest.TestCase):
                 for word, names in table.get(name, {}).items():
                     if names is not None:
                         self.assertEqual(parameters(getattr(one, word)), names, (name, word))
+
+    def test_defaults(self):
+        for told in {**FUNCTIONS, **MADE}:
+            for name in [*FUNCTIONS.get(told, ()), *MADE.get(told, ())]:
+                signature = inspect.signature(getattr(module(told), name))
+                found = {word: one.default for word, one in signature.parameters.items() if one.default is not one.empty}
+                self.assertEqual(found, DEFAULTS.get((told, name), {}), name)
 
     def test_generators(self):
         for told, one in listed():
