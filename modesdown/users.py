@@ -25,6 +25,11 @@ class User:
     def name(self):
         return self._name
 
+    # An error has a field of this name, and what is assigned anywhere has a setter everywhere.
+    @name.setter
+    def name(self, value):
+        raise AttributeError("a user never changes")
+
     @property
     def groups(self):
         return self._groups

@@ -44,6 +44,10 @@ def is_generator(function):
     return any(isinstance(node, (ast.Yield, ast.YieldFrom)) for node in ast.walk(function))
 
 
+def is_setter(function):
+    return any(isinstance(one, ast.Attribute) for one in function.decorator_list)
+
+
 def called_name(call):
     """The name or the attribute that is called."""
     return call.func.id if isinstance(call.func, ast.Name) else getattr(call.func, "attr", None)
@@ -168,7 +172,7 @@ class Language(unittest.TestCase):
     def test_methods(self):
         own = set()
         for name, node in self.nodes(ast.ClassDef):
-            names = [one.name for one in node.body if isinstance(one, ast.FunctionDef)]
+            names = [one.name for one in node.body if isinstance(one, ast.FunctionDef) and not is_setter(one)]
             self.assertEqual(sorted(names), sorted(set(names)), node.name)
             own.update(names)
             self.assertEqual(node.decorator_list, [], node.name)
@@ -203,6 +207,20 @@ class Language(unittest.TestCase):
         for name, node in self.nodes(ast.Attribute):
             if isinstance(node.ctx, ast.Store) and name != "errors.py":
                 self.assertTrue(node.attr.startswith("_"), (name, node.attr))
+
+    def test_a_property_that_is_assigned_anywhere_has_a_setter_everywhere(self):
+        assigned = {node.attr for _, node in self.nodes(ast.Attribute) if isinstance(node.ctx, ast.Store)}
+        self.assertLessEqual({"name", "word", "path", "line", "at"}, assigned)
+        for name, node in self.nodes(ast.ClassDef):
+            setters = {one.name for one in node.body if isinstance(one, ast.FunctionDef) and is_setter(one)}
+            self.assertEqual(self.properties_of(node) & assigned, setters, (name, node.name))
+
+    def properties_of(self, node):
+        """The names of the properties of a class."""
+        return {
+            one.name for one in node.body if isinstance(one, ast.FunctionDef)
+            and any(isinstance(told, ast.Name) and told.id == "property" for told in one.decorator_list)
+        }
 
     def test_generators(self):
         generators = [node.name for name, node in self.nodes(ast.FunctionDef) if is_generator(node)]
