@@ -78,6 +78,11 @@ class Passage:
     def word(self):
         return word_in(self._stand)
 
+    # An error has a field of this name, and what is assigned anywhere has a setter everywhere.
+    @word.setter
+    def word(self, value):
+        raise AttributeError("a passage never changes")
+
     @property
     def ahead(self):
         return self._ahead
