@@ -1,5 +1,6 @@
 """Whether two rows of commands do the same to all trees of a kind, and the verdicts that tell it."""
 
+from modesdown.changes import FORMS
 from modesdown.checks import is_whole_to
 from modesdown.commands import Row
 from modesdown.comparing import Comparison
@@ -7,7 +8,7 @@ from modesdown.errors import NoCommand
 from modesdown.kinds import told_kind
 from modesdown.modes import number_of
 from modesdown.paths import joined
-from modesdown.standing import top_stand
+from modesdown.standing import top_joint
 from modesdown.stands import Stands
 from modesdown.trees import Tree
 
@@ -65,38 +66,36 @@ class Parted(Verdict):
         return Tree.of(*rows)
 
 
-def chain_to(stands, joint, entry):
-    """A shortest chain to an entry at a joint stand: its form, mode, owner and group are told."""
-    chain, name = stands.way(joint)
-    return (*chain, (name, *entry))
+def named(name, ending):
+    """The end of a chain, whose first entry has this name."""
+    first = (name, *ending[0])
+    return (first, *ending[1:])
 
 
-def compared(rows, kind, mask, most, below):
-    """The verdict on two rows, whether they are alike or the first one is below the second one."""
-    one, other = rows
-    number = number_of(mask)
-    asked = told_kind(kind)
-    stands = Stands(asked, one, other, most=most)
-    comparison = Comparison(asked, one, other, number)
-    entry = comparison.parted((top_stand(one), top_stand(other)), "folder", below)
-    if entry is not None:
-        return Parted((("", *entry),))
+def verdict_on(question, most):
+    """Held, or Parted with a shortest chain, if something at a joint stand ends one that shows the contrary."""
+    rows = question._rows
+    stands = Stands(question._kind, *rows, most=most)
+    ending = question.ending(top_joint(rows), "folder")
+    if ending is not None:
+        return Parted(named("", ending))
     for joint in stands.each():
-        for form in ("file", "folder"):
-            entry = comparison.parted(joint, form, below)
-            if entry is not None:
-                return Parted(chain_to(stands, joint, entry))
+        for form in FORMS:
+            ending = question.ending(joint, form)
+            if ending is not None:
+                chain, name = stands.way(joint)
+                return Parted(chain + named(name, ending))
     return Held(stands.listed)
 
 
 def alike(one, other, kind=None, mask=0o777, most=400):
     """Whether behind both rows each entry of each tree of the kind has the same bits of the mask."""
-    return compared((one, other), kind, mask, most, False)
+    return verdict_on(Comparison(told_kind(kind), one, other, number_of(mask), False), most)
 
 
 def at_most(one, other, kind=None, mask=0o777, most=400):
     """Whether the bits of the mask that the first row leaves are always among those of the second one."""
-    return compared((one, other), kind, mask, most, True)
+    return verdict_on(Comparison(told_kind(kind), one, other, number_of(mask), True), most)
 
 
 def needless(row, index, kind=None, mask=0o777, most=400):
@@ -106,8 +105,13 @@ def needless(row, index, kind=None, mask=0o777, most=400):
 
 def exchanged(row, index, kind=None, mask=0o777, most=400):
     """Whether a row does the same if a command and the one behind it are exchanged."""
+    return alike(row, row_exchanged(row, index), kind, mask, most)
+
+
+def row_exchanged(row, index):
+    """The row in which a command and the one behind it are exchanged."""
     if not is_whole_to(index, len(row) - 2):
         raise NoCommand(index)
     commands = [row[at] for at in range(len(row))]
     commands[index], commands[index + 1] = commands[index + 1], commands[index]
-    return alike(row, Row(*commands), kind, mask, most)
+    return Row(*commands)

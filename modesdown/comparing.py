@@ -46,41 +46,71 @@ def owned_by(kind, rows):
     return found
 
 
-class Comparison:
-    """Two rows on a kind and a mask."""
+class Leaving:
+    """What a row leaves to the entries that it comes to."""
 
-    def __init__(self, kind, one, other, mask):
-        self._rows = (one, other)
-        self._users = users_of((one, other))
-        self._starts = [starts_of(one), starts_of(other)]
-        self._owned = owned_by(kind, (one, other))
-        self._masks = [pattern_in(mask, weight) for _, weight in LETTERS_WEIGHED]
+    def __init__(self, row, users):
+        self._row = row
+        self._users = users
+        self._starts = starts_of(row)
         self._known = {}
 
-    def parted(self, joint, form, below):
-        """An entry of a form on which the rows part, or None: where they are unlike, or the first one is not below."""
-        for owned in self._owned:
-            if owned._form == form:
-                one = self.parts_behind(0, joint[0], form, owned._mays)
-                other = self.parts_behind(1, joint[1], form, owned._mays)
-                for at, mask in enumerate(self._masks):
-                    for pattern in owned._patterns[at]:
-                        left = one[at][pattern] & mask
-                        right = other[at][pattern] & mask
-                        if left & (7 - right) or (left != right and not below):
-                            return owned.entry(at, pattern)
-        return None
+    def inside(self, stand):
+        """For each command, whether an entry with this stand is inside."""
+        return tuple([number == len(names) for number, names in zip(stand, self._starts)])
 
-    def parts_behind(self, at, stand, form, mays):
-        """What a row makes of the patterns of r, w and x of entries at a stand."""
-        inside = tuple([number == len(names) for number, names in zip(stand, self._starts[at])])
-        key = (at, inside, form, mays)
+    def parts(self, stand, form, mays):
+        """What the row makes of the patterns of r, w and x of entries with this stand."""
+        inside = self.inside(stand)
+        key = (inside, form, mays)
         if key not in self._known:
             parts = (PATTERNS, PATTERNS, PATTERNS)
-            row = self._rows[at]
-            for k, told in enumerate(inside):
-                command = row[k]
+            for at, told in enumerate(inside):
+                command = self._row[at]
                 if told and command.means(form) and mays[self._users.index(command.user)]:
                     parts = in_turn(parts, parts_for(command.change.tables, form))
             self._known[key] = parts
         return self._known[key]
+
+
+class Comparison:
+    """Whether two rows are alike on a kind and a mask, or the first one is below the second one."""
+
+    def __init__(self, kind, one, other, mask, below):
+        self._kind = kind
+        self._rows = (one, other)
+        self._mask = mask
+        self._below = below
+        users = users_of((one, other))
+        self._leavings = (Leaving(one, users), Leaving(other, users))
+        self._owned = owned_by(kind, (one, other))
+        self._masks = [pattern_in(mask, weight) for _, weight in LETTERS_WEIGHED]
+
+    def unlike(self, left, right):
+        """Whether bits of the mask that the rows leave part them."""
+        return left & ~right != 0 if self._below else left != right
+
+    def ending(self, joint, form):
+        """An entry of a form, without its name, on which the rows part at a joint stand, alone in a tuple; or None."""
+        one, other = self._leavings
+        for owned in self._owned:
+            if owned._form == form:
+                first = one.parts(joint[0], form, owned._mays)
+                second = other.parts(joint[1], form, owned._mays)
+                for at, mask in enumerate(self._masks):
+                    for pattern in owned._patterns[at]:
+                        if self.unlike(first[at][pattern] & mask, second[at][pattern] & mask):
+                            return (owned.entry(at, pattern),)
+        return None
+
+    def ends(self, tree, path):
+        """Whether the rows part at this entry of a tree."""
+        left, right = [left_at(row, tree, path).mode.number & self._mask for row in self._rows]
+        return self.unlike(left, right)
+
+
+def left_at(row, tree, path):
+    """The entry that a row leaves at a path, which stays in the tree as it is."""
+    made = tree.copy()
+    row(made)
+    return made.entry(path)

@@ -74,20 +74,20 @@ def with_spare(names):
     return told + [spare(told)]
 
 
-def owners_for(kind, rows):
-    """The owners that count for a question about some rows and a kind."""
+def owners_for(kind, rows, more=()):
+    """The owners that count for a question about some rows, a kind and more lines."""
     names = [user.name for user in users_of(rows)]
-    for line in kind.lines:
+    for line in kind.lines + more:
         names.extend(line.owners or ())
     return with_spare(names)
 
 
-def groups_for(kind, rows):
-    """The groups that count for a question about some rows and a kind."""
+def groups_for(kind, rows, more=()):
+    """The groups that count for a question about some rows, a kind and more lines."""
     names = []
     for user in users_of(rows):
         names.extend(user.groups)
-    for line in kind.lines:
+    for line in kind.lines + more:
         names.extend(line.groups or ())
     return with_spare(names)
 

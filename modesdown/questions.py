@@ -5,6 +5,7 @@ either letter, and what they do to a folder of any mode is put together from two
 """
 
 from modesdown.changes import PATTERNS
+from modesdown.checks import LETTERS
 from modesdown.foldertypes import groups_for, owners_for, users_of
 from modesdown.modes import bits_of
 from modesdown.paths import names_in
@@ -114,8 +115,8 @@ class Question:
         self._gates = gates_of(kind, rows)
         self._known = {}
 
-    def next_to(self, joint):
-        """By joint stand next to this one: a folder at which this one is, and the name of the entry below."""
+    def met(self, joint):
+        """The bits of the deeds inside and of those on the way at a joint stand, and the next names of these."""
         inside = 0
         way = 0
         names = {}
@@ -126,11 +127,32 @@ class Question:
                 elif number != -1:
                     way = way | deed._bit
                     names[deed._names[number]] = True
+        return (inside, way, names)
+
+    def next_to(self, joint):
+        """By joint stand next to this one: a folder at which this one is, and the name of the entry below."""
+        inside, way, names = self.met(joint)
         fates = self.fates(inside, way)
         found = {}
         for name in sorted(names) + [name_beside(names)]:
             self.add_below(found, fates, joint, name)
         return found
+
+    def lost_at(self, joint):
+        """A folder at which this joint stand is, and the name of an entry below at which a command is lost; or None."""
+        inside, way, _ = self.met(joint)
+        for mask, folder in self.fates(inside, way).items():
+            if mask != inside | way:
+                return (folder, self.name_lost(joint, (inside | way) - mask))
+        return None
+
+    def name_lost(self, joint, bits):
+        """The name of an entry at which the first of these deeds is lost, which its folder does not let through."""
+        for deeds, stand in zip(self._deeds, joint):
+            for deed, number in zip(deeds, stand):
+                if deed._bit & bits:
+                    return LETTERS[0] if number == len(deed._names) else deed._names[number]
+        return None
 
     def fates(self, inside, way):
         """By the bits of the deeds that a folder lets through: such a folder."""

@@ -26,6 +26,11 @@ def top_stand(row):
     return (0,) * len(row)
 
 
+def top_joint(rows):
+    """The joint stand of some rows at the top of a tree."""
+    return tuple([top_stand(row) for row in rows])
+
+
 def word_in(stand):
     """The indexes of the commands that come to an entry with this stand."""
     return tuple([at for at, number in enumerate(stand) if number != -1])

@@ -4,7 +4,7 @@ from modesdown.comparing import Comparison
 from modesdown.errors import BadCommand, BadStand, NoStand, TooMany
 from modesdown.modes import number_of
 from modesdown.questions import Question
-from modesdown.standing import top_stand, word_in, wrong_index
+from modesdown.standing import top_joint, word_in, wrong_index
 
 ROWS = 3
 
@@ -26,7 +26,7 @@ class Stands:
             raise BadCommand("rows")
         self._kind = kind
         self._rows = rows
-        self._top = tuple([top_stand(row) for row in rows])
+        self._top = top_joint(rows)
         self._question = Question(kind, rows)
         # By joint stand: a joint stand above it, the folder there, and the name of the entry.
         self._steps = {}
@@ -94,23 +94,23 @@ class Stands:
             yield from level
 
 
-def comparison_at(kind, one, other, joint, mask):
-    """A comparison of two rows, behind all checks of a question about one joint stand."""
+def ending_at(kind, rows, joint, form, mask, below):
+    """An entry that parts two rows at a joint stand, or None, behind all checks of such a question."""
     if not isinstance(joint, tuple) or len(joint) != 2:
         raise BadStand(0)
-    for at, row in enumerate((one, other)):
+    one, other = rows
+    for at, row in enumerate(rows):
         if wrong_index(row, joint[at]) is not None:
             raise BadStand(at)
-    return Comparison(kind, one, other, number_of(mask))
+    comparison = Comparison(kind, one, other, number_of(mask), below)
+    return comparison.ending(joint, form)
 
 
 def agree(kind, one, other, joint, form, mask=0o777):
     """Whether two rows leave the same bits of the mask to all entries of a form at a joint stand."""
-    comparison = comparison_at(kind, one, other, joint, mask)
-    return comparison.parted(joint, form, False) is None
+    return ending_at(kind, (one, other), joint, form, mask, False) is None
 
 
 def is_below(kind, one, other, joint, form, mask=0o777):
     """Whether the bits of the mask that the first row leaves are among those of the second one there."""
-    comparison = comparison_at(kind, one, other, joint, mask)
-    return comparison.parted(joint, form, True) is None
+    return ending_at(kind, (one, other), joint, form, mask, True) is None

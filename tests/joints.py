@@ -154,6 +154,85 @@ def least_chain(lines, one, other, mask=0o777, at_most=False):
     return None
 
 
+def loses(types, row, stand):
+    """Whether a command is lost right below some folder type with this stand."""
+    for one in types:
+        if any(number != -1 and not on for number, on in zip(stand, goes_on(row, stand, one))):
+            return True
+    return False
+
+
+def least_lost(lines, row):
+    """The number of entries of a shortest chain at whose last entry a command is lost, or None."""
+    types = folders(lines, [row])
+    for k, level in enumerate([[top_of([row])]] + levels(lines, [row])):
+        if any(loses(types, row, stand) for (stand,) in level):
+            return k + 2
+    return None
+
+
+def lost_in(row, tree):
+    """The paths of a plain tree at which a command is lost, told by walks."""
+    stands = walker.played(row, {path: list(entry) for path, entry in tree.items()})[1]
+    found = []
+    for path in tree:
+        above, _, name = path.rpartition("/")
+        for k, command in enumerate(row):
+            names = names_of(command)
+            number = stands[above][k] if path else -1
+            if number != -1 and stands[path][k] == -1 and (number == len(names) or names[number] == name):
+                found.append(path)
+                break
+    return found
+
+
+class Straying:
+    """Which entries of a kind are not of a goal behind a row: all owners, groups and modes are tried."""
+
+    def __init__(self, lines, goal, row):
+        self.row, self.goal = row, goal
+        self.let, self.known = {}, {}
+        for form in ("file", "folder"):
+            for owner in owners_of(lines + goal, [row]):
+                for group in groups_of(lines + goal, [row]):
+                    self.let[form, owner, group] = [mode for mode in range(512) if is_let(lines, form, mode, owner, group)]
+
+    def strays(self, stand, form):
+        inside = tuple(number == len(names_of(command)) for number, command in zip(stand, self.row))
+        if (inside, form) not in self.known:
+            self.known[inside, form] = self.some(stand, form)
+        return self.known[inside, form]
+
+    def some(self, stand, form):
+        for (told, owner, group), modes in self.let.items():
+            if told == form and modes:
+                made = left(self.row, stand, form, owner)
+                if any(not is_let(self.goal, form, behind, owner, group) for behind in {made[mode] for mode in modes}):
+                    return True
+        return False
+
+
+def least_stray(lines, goal, row):
+    """The number of entries of a shortest chain whose last one is not of the goal behind the row, or None."""
+    if not any(line[0] == "folder" for line in lines):
+        return None
+    straying = Straying(lines, goal, row)
+    if straying.strays(top_of([row])[0], "folder"):
+        return 1
+    for k, level in enumerate(levels(lines, [row])):
+        if any(straying.strays(stand, form) for (stand,) in level for form in ("file", "folder")):
+            return k + 2
+    return None
+
+
+def least_left_out(lines, command, whole):
+    """The number of entries of a shortest chain to whose last one the command comes alone, and not at a row's end."""
+    for k, level in enumerate(levels(lines, [[command], whole])):
+        if any(one[0] != -1 and other[-1] == -1 for one, other in level):
+            return k + 2
+    return None
+
+
 def random_line(chance, form=None):
     form = form or chance.choice(["file", "folder"])
     owners = chance.choice([None, None, ["ann"], ["bob"], ["ann", "bob"], ["zz"]])

@@ -21,6 +21,21 @@ FUNCTIONS = {
         "alike": ["one", "other", "kind", "mask", "most"], "at_most": ["one", "other", "kind", "mask", "most"],
         "needless": ["row", "index", "kind", "mask", "most"], "exchanged": ["row", "index", "kind", "mask", "most"],
     },
+    "lasting": {
+        "never_lost": ["row", "kind", "most"], "ends_in": ["row", "goal", "kind", "most"],
+        "settles": ["row", "rounds", "kind", "most"],
+    },
+    "waves": {
+        "fed": ["row", "block", "words"], "wave": ["row", "kind", "deep"], "shows_wave": ["row", "kind", "thing"],
+        "wave_chain": ["block", "entry", "times"],
+    },
+    "far": {
+        "beats": ["tree", "command", "path"], "comings": ["tree", "command", "path", "rounds"],
+        "round_of": ["tree", "command", "path", "k"], "far": ["tree", "command", "rounds"],
+        "far_mode": ["tree", "command", "path", "rounds"],
+        "shows_comings": ["tree", "command", "path", "steps", "rounds", "number"],
+    },
+    "back": {"leads_back": ["row", "more", "command", "kind", "most"], "least_row": ["menu", "asks", "longest"]},
 }
 MADE = {
     "modes": {"Mode": ["number"]},
@@ -35,14 +50,14 @@ MADE = {
     "kinds": {"Line": ["form", "owners", "groups", "must", "never"], "Kind": ["lines"]},
     "foldertypes": {"FolderType": ["owner", "group", "mode"]},
     "stands": {"Stands": ["kind", "rows", "most"]},
-    "alike": {"Verdict": None, "Held": ["listed"], "Parted": ["chain"]},
+    "alike": {"Verdict": None, "Held": ["listed"], "Parted": ["chain"]}, "far": {"Beat": ["lead", "period", "answers"]},
 }
 PROPERTIES = {
     "Mode": ("number", "digits"), "Clause": ("who", "sign", "what"), "Change": ("clauses", "tables"), "User": ("name", "groups"),
     "Entry": ("mode", "owner", "group", "form"), "Command": ("user", "change", "order", "kinds", "start"),
     "Passage": ("after", "word", "ahead", "other"), "Line": ("form", "owners", "groups", "must", "never"), "Kind": ("lines",),
     "FolderType": ("owner", "group", "mode"), "Stands": ("listed", "told"), "Verdict": ("paper", "answer"), "Held": ("listed",),
-    "Parted": ("chain",),
+    "Parted": ("chain",), "Beat": ("lead", "period", "answers"),
 }
 STATIC = {"Mode": {"of": ["owner", "group", "others"], "uniform": ["pattern"]}, "Change": {"setting": ["mode"]}}
 OF_CLASS = {"Mode": {"read": ["text"]}, "Clause": {"read": ["text"]}, "Change": {"read": ["text"]}, "Tree": {"of": ["rows"]},
@@ -90,6 +105,7 @@ METHODS = {
         "__contains__": None, "__len__": None, "__eq__": None, "nexts": ["joint"], "way": ["joint"], "each": [],
     },
     "Verdict": {"__bool__": None, "__eq__": None}, "Held": {"__init__": None}, "Parted": {"__init__": None, "as_tree": []},
+    "Beat": {"__call__": ["c"], "through": ["c"], "nth": ["k"], "__eq__": None},
 }
 GENERATORS = {("Tree", "entries"), ("Row", "play"), ("Passage", "steps"), (None, "words"),
               ("Stands", "each"), (None, "folder_types")}
@@ -100,6 +116,9 @@ DEFAULTS = {
     ("alike", "alike"): {"kind": None, "mask": 0o777, "most": 400}, ("alike", "at_most"): {"kind": None, "mask": 0o777, "most": 400},
     ("alike", "needless"): {"kind": None, "mask": 0o777, "most": 400},
     ("alike", "exchanged"): {"kind": None, "mask": 0o777, "most": 400},
+    ("lasting", "never_lost"): {"kind": None, "most": 400}, ("lasting", "ends_in"): {"kind": None, "most": 400},
+    ("lasting", "settles"): {"kind": None, "most": 400}, ("waves", "wave"): {"deep": 2},
+    ("back", "leads_back"): {"kind": None, "most": 400},
 }
 
 

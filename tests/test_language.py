@@ -19,6 +19,7 @@ BARRED = (
     ast.Global, ast.AsyncFunctionDef, ast.Await, ast.Import, ast.Div, ast.GeneratorExp, ast.AugAssign, ast.Lambda,
     ast.NamedExpr, ast.Match, ast.Nonlocal, ast.AnnAssign, ast.DictComp, ast.SetComp, ast.Set, ast.Try,
 )
+CATCHING = {"changes.py"}
 # The methods of builtin values that may be called, and those of them that no method of the package may be called.
 CALLED = set(
     "append clear copy count endswith extend find get index insert isalnum isalpha isdigit islower isspace isupper items"
@@ -89,7 +90,7 @@ class Language(unittest.TestCase):
 
     def test_imports_and_statements(self):
         for name, node in self.nodes():
-            if name != "changes.py" or not isinstance(node, ast.Try):
+            if name not in CATCHING or not isinstance(node, ast.Try):
                 self.assertNotIsInstance(node, BARRED, (name, getattr(node, "lineno", 0)))
             if isinstance(node, ast.ImportFrom):
                 self.assertEqual(node.level, 0, name)
@@ -227,19 +228,26 @@ class Language(unittest.TestCase):
         others = {node.name for name, node in self.nodes(ast.FunctionDef) if not is_generator(node)}
         self.assertEqual(sorted(generators), sorted(set(generators)))
         self.assertEqual(set(generators) & (others | CALLED), set())
-        for name, node in self.nodes():
-            stored = node.arg if isinstance(node, ast.arg) else getattr(node, "attr", None)
-            if isinstance(getattr(node, "ctx", None), ast.Store) or isinstance(node, ast.arg):
-                self.assertNotIn(stored, generators, name)
+        for name, node in self.nodes(ast.FunctionDef):
+            # What is called by a generator's name is not a parameter or a local variable.
+            local = {one.arg for one in ast.walk(node.args) if isinstance(one, ast.arg)}
+            local |= {one.id for one in ast.walk(node) if isinstance(one, ast.Name) and isinstance(one.ctx, ast.Store)}
+            called = {one.func.id for one in ast.walk(node) if isinstance(one, ast.Call) and isinstance(one.func, ast.Name)}
+            self.assertEqual(local & called & set(generators), set(), (name, node.name))
+        for name, node in self.nodes(ast.Attribute):
+            if isinstance(node.ctx, ast.Store):
+                self.assertNotIn(node.attr, generators, name)
         allowed = set()
         for name, node in self.nodes(ast.For, ast.YieldFrom):
             allowed.add(node.iter if isinstance(node, ast.For) else node.value)
+        for name, node in self.nodes(ast.comprehension):
+            allowed.add(node.iter)
         for name, node in self.nodes(ast.Call):
             if isinstance(node.func, ast.Name) and node.func.id in ITERATED:
                 allowed.update(node.args)
         for name, node in self.nodes(ast.Call):
             if called_name(node) in generators:
-                self.assertIn(node, allowed, (name, node.lineno))
+                self.assertTrue(node in allowed, (name, node.lineno))
                 for one in node.args:
                     self.assertIsInstance(one, (ast.Name, ast.Attribute, ast.Constant, ast.Starred), (name, node.lineno))
 

@@ -55,6 +55,13 @@ def wide(many=2):
             return joints.EVERY, rows, len(stands)
 
 
+def wide_row():
+    """Plain lines and one row of ten commands with more than 400 joint stands, and their number: it took long to find."""
+    chance = random.Random(60387)
+    row = [walker.random_command(chance, USERS[4]) for _ in range(10)]
+    return joints.EVERY, row, len(made(joints.EVERY, [row], most=2000))
+
+
 def words_of(joint):
     return tuple(tuple(k for k, number in enumerate(stand) if number != -1) for stand in joint)
 
@@ -188,6 +195,9 @@ class Asked(Case):
         self.fails(TooMany, (400,), made, lines, rows)
         self.fails(TooMany, (many - 1,), made, lines, rows, most=many - 1)
         self.same(len(made(lines, rows, most=many)), many)
+        lines, row, many = wide_row()
+        self.fails(TooMany, (400,), made, lines, [row])
+        self.fails(TooMany, (many - 1,), made, lines, [row], most=many - 1)
 
     def test_in_with_any_value(self):
         for value in any_values() + [
