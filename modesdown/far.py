@@ -192,9 +192,9 @@ def steps_to(tree, path):
     tree.entry(path)
     above = ""
     folder = tree.entry("")
-    steps = []
+    found = []
     for name in names_in(path):
-        steps.append((above, folder, name))
+        found.append((above, folder, name))
         above = joined(above, name)
         folder = folder[name]
-    return steps
+    return found

@@ -11,7 +11,7 @@ class Feeder:
         self._whole = tuple(range(len(row)))
         self._known = {}
 
-    def through(self, folder, word):
+    def fed_to(self, folder, word):
         """A folder (mode as an integer, owner, group) behind the commands of a word, and the word that goes on."""
         key = (folder, word)
         if key not in self._known:
@@ -26,7 +26,7 @@ class Feeder:
         """A block behind one round, and its yield."""
         behind = []
         for folder in folders:
-            after, word = self.through(folder, word)
+            after, word = self.fed_to(folder, word)
             behind.append(after)
         return (tuple(behind), word)
 

@@ -44,7 +44,7 @@ class Examples(unittest.TestCase):
                 with self.subTest(heading, typed=typed):
                     self.check(typed, told, names)
                     many += 1
-        self.assertGreater(many, 90)
+        self.assertGreater(many, 110)
 
 
 if __name__ == "__main__":

@@ -1,4 +1,4 @@
-"""What the head of the interface says of the modules that have landed."""
+"""What the head of the interface says of all modules."""
 
 import importlib
 import inspect
@@ -36,6 +36,21 @@ FUNCTIONS = {
         "shows_comings": ["tree", "command", "path", "steps", "rounds", "number"],
     },
     "back": {"leads_back": ["row", "more", "command", "kind", "most"], "least_row": ["menu", "asks", "longest"]},
+    "helps": {
+        "findings": ["tree", "user"], "helped": ["tree", "user", "helpers"], "fewest_helpers": ["tree", "user", "path", "helpers"],
+        "shows_help": ["tree", "user", "helpers", "paths", "commands", "bars"],
+    },
+    "lookers": {
+        "is_closed": ["kind", "rows", "listed"], "is_chain": ["kind", "chain"],
+        "shows_alike": ["one", "other", "paper", "kind", "mask"], "shows_at_most": ["one", "other", "paper", "kind", "mask"],
+        "shows_needless": ["row", "index", "paper", "kind", "mask"], "shows_exchanged": ["row", "index", "paper", "kind", "mask"],
+        "shows_never_lost": ["row", "paper", "kind"], "shows_ends_in": ["row", "goal", "paper", "kind"],
+        "shows_led_back": ["row", "more", "command", "paper", "kind"],
+    },
+    "texts": {
+        "write_tree": ["tree"], "write_row": ["row"], "write_kind": ["kind"], "read_tree": ["text"], "read_row": ["text"],
+        "read_kind": ["text"], "report": ["row", "kind"],
+    },
 }
 MADE = {
     "modes": {"Mode": ["number"]},
@@ -51,6 +66,7 @@ MADE = {
     "foldertypes": {"FolderType": ["owner", "group", "mode"]},
     "stands": {"Stands": ["kind", "rows", "most"]},
     "alike": {"Verdict": None, "Held": ["listed"], "Parted": ["chain"]}, "far": {"Beat": ["lead", "period", "answers"]},
+    "helps": {"Help": None}, "desk": {"Desk": ["tree"]},
 }
 PROPERTIES = {
     "Mode": ("number", "digits"), "Clause": ("who", "sign", "what"), "Change": ("clauses", "tables"), "User": ("name", "groups"),
@@ -58,6 +74,7 @@ PROPERTIES = {
     "Passage": ("after", "word", "ahead", "other"), "Line": ("form", "owners", "groups", "must", "never"), "Kind": ("lines",),
     "FolderType": ("owner", "group", "mode"), "Stands": ("listed", "told"), "Verdict": ("paper", "answer"), "Held": ("listed",),
     "Parted": ("chain",), "Beat": ("lead", "period", "answers"),
+    "Help": ("paths", "commands", "bars"), "Desk": ("row", "kind"),
 }
 STATIC = {"Mode": {"of": ["owner", "group", "others"], "uniform": ["pattern"]}, "Change": {"setting": ["mode"]}}
 OF_CLASS = {"Mode": {"read": ["text"]}, "Clause": {"read": ["text"]}, "Change": {"read": ["text"]}, "Tree": {"of": ["rows"]},
@@ -105,10 +122,11 @@ METHODS = {
         "__contains__": None, "__len__": None, "__eq__": None, "nexts": ["joint"], "way": ["joint"], "each": [],
     },
     "Verdict": {"__bool__": None, "__eq__": None}, "Held": {"__init__": None}, "Parted": {"__init__": None, "as_tree": []},
-    "Beat": {"__call__": ["c"], "through": ["c"], "nth": ["k"], "__eq__": None},
+    "Beat": {"__call__": ["c"], "through": ["c"], "nth": ["k"], "__eq__": None}, "Help": {"__bool__": None},
+    "Desk": {"ask": ["line"], "run": ["lines"], "tree_copy": []},
 }
 GENERATORS = {("Tree", "entries"), ("Row", "play"), ("Passage", "steps"), (None, "words"),
-              ("Stands", "each"), (None, "folder_types")}
+              ("Stands", "each"), (None, "folder_types"), (None, "findings")}
 DEFAULTS = {
     ("commands", "Command"): {"order": "first", "kinds": "all", "start": ""},
     ("kinds", "Line"): {"owners": None, "groups": None, "must": 0, "never": 0}, ("stands", "Stands"): {"most": 400},
@@ -118,7 +136,11 @@ DEFAULTS = {
     ("alike", "exchanged"): {"kind": None, "mask": 0o777, "most": 400},
     ("lasting", "never_lost"): {"kind": None, "most": 400}, ("lasting", "ends_in"): {"kind": None, "most": 400},
     ("lasting", "settles"): {"kind": None, "most": 400}, ("waves", "wave"): {"deep": 2},
-    ("back", "leads_back"): {"kind": None, "most": 400},
+    ("back", "leads_back"): {"kind": None, "most": 400}, ("texts", "report"): {"kind": None},
+    ("lookers", "shows_alike"): {"kind": None, "mask": 0o777}, ("lookers", "shows_at_most"): {"kind": None, "mask": 0o777},
+    ("lookers", "shows_needless"): {"kind": None, "mask": 0o777}, ("lookers", "shows_exchanged"): {"kind": None, "mask": 0o777},
+    ("lookers", "shows_never_lost"): {"kind": None}, ("lookers", "shows_ends_in"): {"kind": None},
+    ("lookers", "shows_led_back"): {"kind": None},
 }
 
 
@@ -127,7 +149,7 @@ def module(name):
 
 
 def listed():
-    """All classes of the interface that have landed, with their modules."""
+    """All classes of the interface, with their modules."""
     return [(told, getattr(module(told), name)) for told, classes in MADE.items() for name in classes]
 
 

@@ -19,7 +19,7 @@ BARRED = (
     ast.Global, ast.AsyncFunctionDef, ast.Await, ast.Import, ast.Div, ast.GeneratorExp, ast.AugAssign, ast.Lambda,
     ast.NamedExpr, ast.Match, ast.Nonlocal, ast.AnnAssign, ast.DictComp, ast.SetComp, ast.Set, ast.Try,
 )
-CATCHING = {"changes.py"}
+CATCHING = {"changes.py", "reading.py", "desk.py"}
 # The methods of builtin values that may be called, and those of them that no method of the package may be called.
 CALLED = set(
     "append clear copy count endswith extend find get index insert isalnum isalpha isdigit islower isspace isupper items"
