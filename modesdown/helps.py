@@ -42,7 +42,7 @@ def fewest_helpers(tree, user, path, *helpers):
 
 def shows_help(tree, user, helpers, paths, commands, bars):
     """Whether behind these commands of helpers the user finds just these paths, and just these bars stay for good."""
-    if not isinstance(commands, (list, tuple)) or not isinstance(paths, tuple) or not isinstance(bars, list):
+    if not isinstance(commands, (list, tuple)):
         return False
     if not all([is_of_helper(command, helpers) for command in commands]):
         return False

@@ -48,7 +48,6 @@ def lines_of(text):
 
 def lines_within(line, k):
     """The lines of the text that is told in a line from word k on, with ; between."""
-    line.take(k)
     ahead = k
     lines = []
     for part in " ".join(line.rest(k)).split(" ; "):

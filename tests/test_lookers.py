@@ -364,6 +364,13 @@ class Compared(Case):
             ):
                 for told in (value, ("yes", value), ("no", value), (value, listed), (value, ()), ("yes", (value,)), ("no", (LINK, value))):
                     self.same(looker(told), False)
+            for verdict, looker in (
+                (alike(MEND, MEND * 2), lambda paper: shows_alike(MEND, MEND * 2, paper)),
+                (never_lost(SHUT), lambda paper: shows_never_lost(SHUT, paper)),
+                (ends_in(SHUT, OWN), lambda paper: shows_ends_in(SHUT, OWN, paper)),
+                (leads_back(SHUT, Row(), MEND[0]), lambda paper: shows_led_back(SHUT, Row(), MEND[0], paper)),
+            ):
+                self.same([looker((value, verdict.chain)), looker(("No", verdict.chain)), looker(("no", verdict.chain))], [False, False, True])
         self.same(shows_alike(OPENED, OPENED, ("yes", listed)), True)
 
 

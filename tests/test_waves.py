@@ -242,6 +242,12 @@ class Waves(Case):
             kind = Kind(Line("folder", ["ann"], ["a"]), line)
             self.same(wave(late, kind), ((("folder", Mode(0), "ann", "a"),), 1, entry))
 
+    def test_the_last_mode_of_all(self):
+        row = Row(Command(ANN, Change.read("u+rx,o-w"), "last"))
+        for must, never in ((0o777, 0), (0o776, 0o001)):
+            kind = Kind(Line("folder", ["ann"], never=0o777), Line("file", ["ann"], must=must, never=never))
+            self.same(wave(row, kind), ((CLOSED,), 1, ("file", Mode(must), "ann", "q")))
+
     def test_modes_have_w_only_where_it_must_stand(self):
         kind = Kind(Line("folder", ["ann"], must=0o222), Line("file"))
         self.same(wave(LATE, kind)[0], (("folder", Mode(0o222), "ann", "q"),))
