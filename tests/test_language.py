@@ -265,6 +265,19 @@ class Language(unittest.TestCase):
                     if isinstance(one, ast.Return):
                         self.assertIsNone(one.value)
 
+    def test_statements_that_are_values_are_calls(self):
+        for name, node in self.nodes(ast.Expr):
+            allowed = isinstance(node.value, (ast.Call, ast.Yield, ast.YieldFrom))
+            self.assertTrue(allowed or isinstance(node.value, ast.Constant) and isinstance(node.value.value, str), (name, node.lineno))
+
+    def test_stars_in_calls(self):
+        for name, node in self.nodes(ast.Call):
+            stars = [k for k, one in enumerate(node.args) if isinstance(one, ast.Starred)]
+            for k in stars:
+                self.assertIsInstance(node.args[k].value, (ast.Name, ast.Attribute, ast.List, ast.Tuple), (name, node.lineno))
+            for one in node.args[stars[0] + 1:] if stars else []:
+                self.assertIsInstance(one, (ast.Name, ast.Attribute, ast.Constant, ast.Starred), (name, node.lineno))
+
     def test_sets_and_sorting(self):
         for name, node in self.nodes(ast.Call):
             if isinstance(node.func, ast.Name) and node.func.id == "set":
